@@ -1,0 +1,1 @@
+"""Set pages with words struck out, and tell exactly what the covered copies tell of these words."""
