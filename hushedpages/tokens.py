@@ -9,12 +9,17 @@ LONGEST_NAME = 8
 
 def is_word(run):
     """Whether a string is a word."""
-    return 1 <= len(run) <= LONGEST_WORD and _run_end(run, 0, WORD_CHARACTERS) == len(run)
+    return 1 <= len(run) <= LONGEST_WORD and consists_of(run, WORD_CHARACTERS)
 
 
 def is_name(run):
     """Whether a string is a name."""
-    return 1 <= len(run) <= LONGEST_NAME and _run_end(run, 0, LETTERS) == len(run)
+    return 1 <= len(run) <= LONGEST_NAME and consists_of(run, LETTERS)
+
+
+def consists_of(run, allowed):
+    """Whether a string has only allowed characters."""
+    return _run_end(run, 0, allowed) == len(run)
 
 
 def tokens_of(text):

@@ -9,6 +9,15 @@ EXAMPLES = """
 >>> from hushedpages.reading import read_tree
 >>> length_of(read_tree('@let{m p}{@p @p} @m{@m{a b}}'))
 8
+>>> from hushedpages.blocks import record_of
+>>> record_of('@par{ab @hole{who}{1}}')
+(('par', (('say', 'ab'), ('hole', 'who', 1))),)
+>>> from hushedpages.shapes import shape_of, signs_of
+>>> style = (12, 3, 1, (('m', 2),), (('m', 'a', 1),), (('a', 'n', 5),), (0, 0, 0, 0, 0))
+>>> shape_of(style, 'mana')
+(4, ((3, 2, 5),))
+>>> signs_of(style, 'mana', 0, 1)
+'m_-'
 """
 README = pathlib.Path(__file__).resolve().parent.parent / "README.md"
 

@@ -9,6 +9,12 @@ FUNCTIONS = {
     "reading": {"read_tree": ["text"]},
     "writing": {"write_tree": ["tree"]},
     "macros": {"check_macros": ["tree"], "length_of": ["tree"], "nesting_of": ["tree"], "expanded": ["tree"]},
+    "blocks": {"blocks_of": ["tree"], "record_of": ["text"]},
+    "styles": {"check_style": ["style"]},
+    "shapes": {"signs_of": ["style", "word", "first", "behind"], "shape_of": ["style", "word"],
+               "piece_width": ["shape", "first", "last"]},
+    "books": {"check_book": ["book"], "check_record": ["record", "book"], "filled": ["record", "book", "stems"]},
+    "stocks": {"stems_many": ["stock"], "stem_at": ["stock", "k"], "place_in": ["stock", "stem"]},
 }
 
 
