@@ -19,13 +19,16 @@ def signs_of(style, word, first, behind):
 def shape_of(style, word):
     """The shape of a word: its width, and its partings."""
     partings = []
-    for at in range(2, len(word) - 1):
-        price = break_price(style, word[at - 1], word[at])
-        if price is not None:
-            left = _piece_width(style, word, 0, at)
-            right = _piece_width(style, word, at, len(word))
-            partings.append((left, right, price))
+    for at in parting_places(style, word):
+        left = _piece_width(style, word, 0, at)
+        right = _piece_width(style, word, at, len(word))
+        partings.append((left, right, break_price(style, word[at - 1], word[at])))
     return _piece_width(style, word, 0, len(word)), tuple(partings)
+
+
+def parting_places(style, word):
+    """The places at which a word can be parted, ascending."""
+    return [at for at in range(2, len(word) - 1) if break_price(style, word[at - 1], word[at]) is not None]
 
 
 def piece_width(shape, first, last):

@@ -18,6 +18,10 @@ EXAMPLES = """
 (4, ((3, 2, 5),))
 >>> signs_of(style, 'mana', 0, 1)
 'm_-'
+>>> S = (12, 3, 1, (), (), (), (0, 0, 0, 0, 0))
+>>> from hushedpages.rows import set_words
+>>> set_words(S, 7, (('aa', 0), ('bb', 0), ('cc', 0), ('dd', 1)))
+(('aa   bb', '       '), ('cc dd  ', '   ##  '))
 """
 README = pathlib.Path(__file__).resolve().parent.parent / "README.md"
 

@@ -15,6 +15,14 @@ FUNCTIONS = {
                "piece_width": ["shape", "first", "last"]},
     "books": {"check_book": ["book"], "check_record": ["record", "book"], "filled": ["record", "book", "stems"]},
     "stocks": {"stems_many": ["stock"], "stem_at": ["stock", "k"], "place_in": ["stock", "stem"]},
+    "joint": {"joint_shape": ["styles", "secret", "stem"], "shapes_of": ["styles", "secret"],
+              "stem_with": ["styles", "secret", "shape", "k"], "place_with": ["styles", "secret", "stem"]},
+    "families": {"family": ["book", "styles"], "first_stems": ["book", "styles", "filling"],
+                 "filling_of": ["book", "styles", "stems"]},
+    "nets": {"least_way": ["net"], "bounds_of": ["net"], "judge_bounds": ["net", "total", "bounds"]},
+    "lines": {"positions": ["shapes"], "line_net": ["measure", "ladder", "shapes"],
+              "least_lines": ["measure", "ladder", "shapes"]},
+    "rows": {"set_words": ["style", "measure", "words", "ragged"]},
 }
 
 
@@ -28,6 +36,14 @@ class InterfaceTest(unittest.TestCase):
                     self.assertTrue(inspect.isfunction(function))
                     self.assertEqual(function.__module__, f"hushedpages.{file}")
                     self.assertEqual(list(inspect.signature(function).parameters), arguments)
+
+    def test_default_values(self):
+        for file, functions in FUNCTIONS.items():
+            for name in functions:
+                function = getattr(importlib.import_module(f"hushedpages.{file}"), name)
+                given = {argument.name: argument.default for argument in inspect.signature(function).parameters.values()
+                         if argument.default is not argument.empty}
+                self.assertEqual(given, {"ragged": False} if name == "set_words" else {})
 
 
 if __name__ == "__main__":
