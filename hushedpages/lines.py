@@ -1,7 +1,7 @@
 """Lines: the net of the lines that fit into a measure, and the least ones [18]. Words are given by their shapes."""
 
 from hushedpages.errors import TooWide
-from hushedpages.nets import least_way
+from hushedpages.nets import least_way_along
 from hushedpages.shapes import piece_width
 
 
@@ -17,21 +17,25 @@ def line_net(measure, ladder, shapes):
     numbers = {place: number for number, place in enumerate(places)}
     arcs = []
     for tail, begin in enumerate(places[:-1]):
-        for end, width in _lines_from(measure, shapes, begin):
-            arcs.append((tail, numbers[end], _cost(measure, ladder, shapes, begin, end, width)))
+        arcs.extend([(tail, numbers[end], cost) for end, cost in _lines_from(measure, ladder, shapes, begin)])
     return len(places), tuple(arcs)
 
 
 def least_lines(measure, ladder, shapes):
     """The positions at which the lines of a row of words begin and end."""
-    least = least_way(line_net(measure, ladder, shapes))
+    least = least_way_along(positions(shapes), lambda begin: _lines_from(measure, ladder, shapes, begin))
     if least is None:
         raise TooWide("word")
-    places = positions(shapes)
-    return tuple([places[number] for number in least[1]])
+    return least[1]
 
 
-def _lines_from(measure, shapes, begin):
+def _lines_from(measure, ladder, shapes, begin):
+    """The lines that fit and begin at a position: where each ends, ascending, and its cost."""
+    ends = _ends_from(measure, shapes, begin)
+    return [(end, _cost(measure, ladder, shapes, begin, end, width)) for end, width in ends]
+
+
+def _ends_from(measure, shapes, begin):
     """The lines that fit and begin at a position: where each ends, ascending, and its natural width."""
     first, parting = begin
     found = []

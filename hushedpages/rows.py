@@ -1,8 +1,8 @@
 """Rows of words are set to a measure as strips [19]."""
 
 from hushedpages.lines import least_lines
-from hushedpages.shapes import parting_places, shape_of, signs_of
-from hushedpages.strips import blank_strip, joined, placed, strip_of
+from hushedpages.shapes import parting_places, shape_of
+from hushedpages.strips import blank_strip, joined, piece_strip, placed
 
 
 def set_words(style, measure, words, ragged=False):
@@ -30,7 +30,7 @@ def _pieces_of_line(style, words, begin, end):
             places = [0] + parting_places(style, word)
             first = places[begin[1]] if at == begin[0] else 0
             behind = places[end[1]] if at == end[0] else len(word)
-            pieces.append(strip_of(signs_of(style, word, first, behind), struck == 1))
+            pieces.append(piece_strip(style, word, struck, first, behind))
     return pieces
 
 

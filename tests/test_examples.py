@@ -22,6 +22,17 @@ EXAMPLES = """
 >>> from hushedpages.rows import set_words
 >>> set_words(S, 7, (('aa', 0), ('bb', 0), ('cc', 0), ('dd', 1)))
 (('aa   bb', '       '), ('cc dd  ', '   ##  '))
+>>> from hushedpages.tables import boundaries, chain_of
+>>> boundaries(2, ((0, 1, 2), (1, 1, 3), (0, 2, 8)))
+(0, 3, 9)
+>>> chain_of(2, ((0, 1, 2), (1, 1, 3), (0, 2, 8)), 2)
+(0, 2)
+>>> from hushedpages.formulas import box_of
+>>> box_of(S, (('over', (('say', 'a'),), (('say', 'bcd'),)), ('up', (('say', 'e'),))))
+(1, ((' a e', '    '), ('--- ', '    '), ('bcd ', '    ')))
+>>> from hushedpages.columns import least_columns
+>>> least_columns(3, 0, (((0, 1, 0), (0, 1, 0), (0, 1, 0), (0, 1, 0)), ()))
+((0, 0), (3, 0), (4, 0))
 """
 README = pathlib.Path(__file__).resolve().parent.parent / "README.md"
 

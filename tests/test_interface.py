@@ -23,6 +23,13 @@ FUNCTIONS = {
     "lines": {"positions": ["shapes"], "line_net": ["measure", "ladder", "shapes"],
               "least_lines": ["measure", "ladder", "shapes"]},
     "rows": {"set_words": ["style", "measure", "words", "ragged"]},
+    "tables": {"boundaries": ["tracks", "cells"], "chain_of": ["tracks", "cells", "boundary"],
+               "judge_chain": ["tracks", "cells", "boundary", "value", "chain"], "table_strips": ["style", "rows"]},
+    "formulas": {"box_of": ["style", "formula"], "shown": ["style", "formula"]},
+    "flows": {"flow_of": ["filled", "style", "numbers"], "stack_of": ["flow"]},
+    "columns": {"states": ["stack"], "column_net": ["depth", "late", "stack"],
+                "least_columns": ["depth", "late", "stack"]},
+    "numbers": {"first_numbers": ["record"], "found_numbers": ["filled", "style", "numbers"]},
 }
 
 

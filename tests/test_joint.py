@@ -198,6 +198,16 @@ class JointTest(unittest.TestCase):
         style = style_with(breaks=[(a, b, 3) for a in letters for b in letters])
         self.assertEqual(len(shapes_of((style,), secret_of(ALL))), 21)
 
+    def test_pairs_that_part_no_word_make_no_shapes(self):
+        # Each pair of letters has a price of its own, but only one character stands ahead, or behind.
+        letters = SIGNS[10:]
+        style = style_with(breaks=[(a, b, 26 * i + j) for i, a in enumerate(letters) for j, b in enumerate(letters)])
+        for pattern in ((letters, letters, "0", "0"), ("0", letters, letters)):
+            self.assertEqual(shapes_of((style,), secret_of((pattern,))), (told(676, (len(pattern), ())),))
+        for stock, endings in (((("0", letters, letters),), (".", "")), ((("0", letters, letters, "0"),), ("",)),
+                               ((("0", letters),), ("", "ax"))):
+            self.check((style,), secret_of(stock, endings))
+
     def test_64_and_65_shapes(self):
         # Under these four styles, no two characters have the same widths; 8 has the width 3 in the first style.
         styles = tuple(style_with([(sign, 1 + at // 3 ** place % 3) for at, sign in enumerate(SIGNS) if at // 3 ** place % 3])
