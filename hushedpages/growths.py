@@ -4,12 +4,20 @@ Behind each slot stand nodes. Two beginnings of stems come to one node if nothin
 follows them adds the same to both, and the shapes of what stands so far are the same. Beginnings that only
 differ in these shapes have, with one and the same rest, words of different shapes. So if more of them than
 there may be shapes come to nodes of one kind, then there are too many shapes, however many stems there are.
+
+A word can be parted ahead of the last character of its stem only if an ending follows. If some endings are
+empty and others are not, then a parting there is one of some words of the stem only, and it is told apart from
+a parting of all words, also where both have the same widths and the same price.
 """
 
 from hushedpages.errors import TooMany
 from hushedpages.styles import break_price, cut_of, width_of
 
 MOST_SHAPES = 64
+
+# Which words of a stem can be parted at a place: those with any ending, or those with some endings only.
+ALL_WORDS = 1
+SOME_WORDS = 0
 
 
 class Additions:
@@ -21,11 +29,11 @@ class Additions:
         self.numbers = {}
         self.found = {}
 
-    def number(self, ahead, sign, can_part):
-        """The number of what a character adds behind another one; can_part: whether a word may be parted there."""
-        key = ahead, sign, can_part
+    def number(self, ahead, sign, parted):
+        """The number of what a character adds behind another one; parted: which words can be, None if no word."""
+        key = ahead, sign, parted
         if key not in self.found:
-            addition = tuple([_addition(style, ahead, sign, can_part) for style in self.styles])
+            addition = tuple([_addition(style, ahead, sign, parted) for style in self.styles])
             if addition not in self.numbers:
                 self.numbers[addition] = len(self.told)
                 self.told.append(addition)
@@ -37,7 +45,8 @@ class Layer:
     """The nodes behind a slot: of which kind each is, its sizes, and the first beginning that came to it.
 
     Kinds tells for each kind what the characters that can follow add. The sizes are, for each style, a pair:
-    the width so far, and for each parting so far its left width, the cut that it saves, and its price.
+    the width so far, and for each parting so far its left width, the cut that it saves, its price, and which
+    words it parts.
     """
 
     def __init__(self, kinds):
@@ -61,7 +70,7 @@ class Layer:
 class Growth:
     """The stems of one pattern: the nodes that they come to, slot by slot.
 
-    Steps tells, for each slot and each node ahead of it, the nodes to which its characters lead. Firsts are the
+    Paths tells, for each slot and each node ahead of it, the nodes to which its characters lead. Firsts are the
     first stems of the nodes behind the last slot.
     """
 
@@ -69,7 +78,7 @@ class Growth:
         self.additions = additions
         self.pattern = pattern
         self.endings = endings
-        self.steps = []
+        self.paths = []
         layer = Layer([self.added_behind("", 0)])
         layer.number(0, ((0, ()),) * len(additions.styles), "")
         for at in range(len(pattern)):
@@ -78,12 +87,21 @@ class Growth:
 
     def added_behind(self, sign, place):
         """What the characters that can stand at this place add behind a character; those of endings, too."""
-        most = len(self.pattern) + max([len(ending) for ending in self.endings])
         if place < len(self.pattern):
-            can_part = 2 <= place <= most - 2
-            return tuple([self.additions.number(sign, later, can_part) for later in self.pattern[place]])
-        return tuple([self.additions.number(sign, ending[:1], place >= 2 and len(ending) >= 2)
+            parted = self.parted_at(place)
+            return tuple([self.additions.number(sign, later, parted) for later in self.pattern[place]])
+        # Each ending belongs to words of its own, so here it is told for these alone.
+        return tuple([self.additions.number(sign, ending[:1], ALL_WORDS if place >= 2 and len(ending) >= 2 else None)
                       for ending in self.endings])
+
+    def parted_at(self, place):
+        """Which words of a stem can be parted at a place within the stem, None if no word."""
+        if place < 2:
+            return None
+        able = [len(self.pattern) + len(ending) - place >= 2 for ending in self.endings]
+        if all(able):
+            return ALL_WORDS
+        return SOME_WORDS if any(able) else None
 
     def grown(self, layer, at):
         """The layer behind slot number at, from the one ahead of it."""
@@ -93,7 +111,7 @@ class Growth:
             numbers.setdefault(row, len(numbers))
         kinds = [numbers[row] for row in rows]
         behind = Layer(list(numbers))
-        self.steps.append([self.heads_of(node, layer, behind, kinds, at) for node in list(layer.nodes)])
+        self.paths.append([self.heads_of(node, layer, behind, kinds, at) for node in list(layer.nodes)])
         return behind
 
     def heads_of(self, node, layer, behind, kinds, at):
@@ -110,7 +128,7 @@ class Growth:
     def counts(self):
         """For each node behind the last slot, how many stems come to it."""
         many = [1]
-        for steps in self.steps:
+        for steps in self.paths:
             later = [0] * (1 + max([max(heads) for heads in steps]))
             for ways, heads in zip(many, steps):
                 for head in heads:
@@ -124,7 +142,7 @@ class Growth:
         Chosen has a 1 for each chosen node behind the last slot, and a 0 for each other one.
         """
         rests = [chosen]
-        for steps in reversed(self.steps):
+        for steps in reversed(self.paths):
             later = rests[-1]
             rests.append([sum([later[head] for head in heads]) for heads in steps])
         return rests[::-1]
@@ -133,7 +151,7 @@ class Growth:
         """The stem number k, fewer than there are, of those that come to the chosen nodes of these rests."""
         signs = []
         node = 0
-        for slot, steps, later in zip(self.pattern, self.steps, rests[1:]):
+        for slot, steps, later in zip(self.pattern, self.paths, rests[1:]):
             at = 0
             while k >= later[steps[node][at]]:
                 k -= later[steps[node][at]]
@@ -146,17 +164,19 @@ class Growth:
         """The number of a stem of the pattern among those that come to the chosen nodes of these rests."""
         place = 0
         node = 0
-        for sign, slot, steps, later in zip(stem, self.pattern, self.steps, rests[1:]):
+        for sign, slot, steps, later in zip(stem, self.pattern, self.paths, rests[1:]):
             at = slot.find(sign)
             place += sum([later[head] for head in steps[node][:at]])
             node = steps[node][at]
         return place
 
 
-def _addition(style, ahead, sign, can_part):
-    """What a character adds behind another one: its width, the cut, and the price if a word can be parted there."""
+def _addition(style, ahead, sign, parted):
+    """What a character adds behind another one: its width, the cut, and the price if words can be parted there."""
     width = width_of(style, sign) if sign != "" else 0
-    return width, cut_of(style, ahead, sign), break_price(style, ahead, sign) if can_part else None
+    cut = cut_of(style, ahead, sign)
+    price = break_price(style, ahead, sign) if parted is not None else None
+    return width, cut, price, parted if price is not None else None
 
 
 def _larger_sizes(sizes, addition):
@@ -167,7 +187,7 @@ def _larger_sizes(sizes, addition):
 def _larger_size(size, added):
     """The size in one style with what one more character adds."""
     width, partings = size
-    more, cut, price = added
+    more, cut, price, parted = added
     if price is not None:
-        partings = partings + ((width + 1, cut, price),)
+        partings = partings + ((width + 1, cut, price, parted),)
     return width + more - cut, partings
