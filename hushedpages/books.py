@@ -45,7 +45,16 @@ def filled(record, book, stems):
     words = {}
     for secret, stem in zip(book, stems):
         for at, ending in enumerate(secret[3]):
-            words[secret[0], at] = stem + ending
+            words[secret[0], at] = (stem + ending,)
+    return tuple([_filled_block(block, words) for block in record])
+
+
+def marked(record, book, stems):
+    """The filled record in which each struck word has a mark: the numbers of its secret and of its ending."""
+    words = {}
+    for number, (secret, stem) in enumerate(zip(book, stems)):
+        for at, ending in enumerate(secret[3]):
+            words[secret[0], at] = (stem + ending, (number, at))
     return tuple([_filled_block(block, words) for block in record])
 
 
@@ -112,7 +121,8 @@ def _is_ending(ending):
     return isinstance(ending, str) and len(ending) <= LONGEST_ENDING and consists_of(ending, WORD_CHARACTERS)
 
 
-# Filling; words tells the word for the name of each secret and the number of each of its endings.
+# Filling; words tells what stands for the name of each secret and the number of each of its endings: a tuple of the
+# word, and of its mark if it has one.
 
 
 def _filled_block(block, words):
@@ -148,7 +158,7 @@ def _filled_piece(piece, words):
     """A piece, or a part of a formula, with words in the places of its holes."""
     kind = piece[0]
     if kind == "hole":
-        return "hid", words[piece[1], piece[2]]
+        return ("hid",) + words[piece[1], piece[2]]
     if kind in ("note", "over", "up", "low", "fence"):
         return (kind,) + _all_filled(piece[1:], words)
     if kind == "grid":

@@ -1,6 +1,7 @@
 """Flows: the entries of a record that is set with some numbers of pages [22], and the prices of breaks [23]."""
 
 from hushedpages.runs import Setter
+from hushedpages.strips import bare
 
 
 def flow_of(filled, style, numbers):
@@ -25,6 +26,7 @@ class Flow:
 
     Firsts tells for each block the number of its first row entry, None if it has no rows. Key_rows are pairs of
     the word of a key and the row entry in which it begins. Figures are pairs of a block's number and its strips.
+    All strips here have traces.
     """
 
     def __init__(self, filled, style, numbers):
@@ -81,8 +83,9 @@ class Flow:
 
     def parts(self):
         """The flow as it is told: its entries, the prices of breaks, its figures and its notes."""
+        entries = [None if entry is None else (entry[0][:2], entry[1]) for entry in self.entries]
         figures = []
         for at, strips in self.figures:
             known = self.row_from(at)
-            figures.append((len(self.entries) if known is None else known, strips))
-        return tuple(self.entries), tuple(self.prices), tuple(figures), self.notes
+            figures.append((len(entries) if known is None else known, bare(strips)))
+        return tuple(entries), tuple(self.prices), tuple(figures), tuple([bare(strips) for strips in self.notes])

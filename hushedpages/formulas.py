@@ -2,27 +2,39 @@
 and its strips, all of one width."""
 
 from hushedpages.errors import TooWide
-from hushedpages.strips import blank_strip, joined, placed, plain_strip, word_strip
+from hushedpages.pieces import struck_of
+from hushedpages.strips import bare, blank_strip, joined, placed, plain_strip, word_strip
 
 
 def box_of(style, formula):
     """The box of a formula."""
+    up, strips = _traced_box(style, formula)
+    return up, bare(strips)
+
+
+def shown(style, formula):
+    """The strips of a displayed formula."""
+    return bare(traced_show(style, formula))
+
+
+def traced_show(style, formula):
+    """The strips of a displayed formula, with traces."""
+    measure = style[0]
+    box = _traced_box(style, formula)
+    left = (measure - _width(box)) // 2
+    if left < 0:
+        raise TooWide("formula")
+    return tuple([placed(strip, left, measure) for strip in box[1]])
+
+
+def _traced_box(style, formula):
+    """The box of a formula, with traces."""
     boxes = []
     for part in formula:
         if len(boxes) > 0 and part[0] not in ("up", "low"):
             boxes.append(_gap())
         boxes.append(_part_box(style, part))
     return _beside(boxes)
-
-
-def shown(style, formula):
-    """The strips of a displayed formula."""
-    measure = style[0]
-    box = box_of(style, formula)
-    left = (measure - _width(box)) // 2
-    if left < 0:
-        raise TooWide("formula")
-    return tuple([placed(strip, left, measure) for strip in box[1]])
 
 
 def _gap():
@@ -39,12 +51,12 @@ def _part_box(style, part):
     """The box of a part of a formula."""
     kind = part[0]
     if kind in ("say", "hid"):
-        return 0, (word_strip(style, part[1], 1 if kind == "hid" else 0),)
+        return 0, (word_strip(style, part[1], struck_of(part)),)
     if kind == "grid":
-        return _grid_box([[box_of(style, formula) for formula in line] for line in part[1]])
-    box = box_of(style, part[1])
+        return _grid_box([[_traced_box(style, formula) for formula in line] for line in part[1]])
+    box = _traced_box(style, part[1])
     if kind == "over":
-        return _over_box(box, box_of(style, part[2]))
+        return _over_box(box, _traced_box(style, part[2]))
     if kind == "up":
         return len(box[1]), box[1] + (blank_strip(_width(box)),)
     if kind == "low":

@@ -57,6 +57,14 @@ class Shaped:
             rests = self.rests_of(at, shape)
         return self.growths[at][0].stem_at(rests, k)
 
+    def stems_with(self, number):
+        """All stems with this number of a shape, in the order of the stock."""
+        stems = []
+        for at, (growth, _) in enumerate(self.growths):
+            rests = self.rests_of(at, self.shapes[number][0])
+            stems.extend([growth.stem_at(rests, k) for k in range(rests[0][0])])
+        return stems
+
     def place_with(self, stem):
         """The number of a stem's shape, and its number among the stems with this shape."""
         stock = self.secret[2]

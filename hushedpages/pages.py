@@ -12,6 +12,7 @@ class Pages:
 
     def __init__(self, filled, style, numbers):
         self.filled = filled
+        self.style = style
         self.flow = Flow(filled, style, numbers)
         self.columns = least_columns(style[1], style[6][4], stack_of(self.flow.parts()))
         self.many = 0

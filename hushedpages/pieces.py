@@ -1,4 +1,4 @@
-"""All pieces of a record, in order."""
+"""All pieces of a record, in order, and which of them are struck."""
 
 
 def pieces_of(record):
@@ -8,6 +8,13 @@ def pieces_of(record):
         for pieces in _rows_of(block):
             _put_pieces(pieces, found)
     return tuple(found)
+
+
+def struck_of(piece):
+    """0 for a piece whose word is not struck, otherwise the mark of the struck word, which is 1 if it has none."""
+    if piece[0] != "hid":
+        return 0
+    return piece[2] if len(piece) == 3 else 1
 
 
 def _rows_of(block):

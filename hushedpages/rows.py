@@ -1,17 +1,17 @@
 """Rows of words are set to a measure as strips [19]."""
 
 from hushedpages.lines import least_lines
-from hushedpages.shapes import parting_places, shape_of
-from hushedpages.strips import blank_strip, joined, piece_strip, placed
+from hushedpages.shapes import shape_of
+from hushedpages.strips import bare, blank_strip, joined, piece_strip, placed
 
 
 def set_words(style, measure, words, ragged=False):
     """The strips of a row of words."""
-    return set_lines(style, measure, words, ragged)[0]
+    return bare(set_lines(style, measure, words, ragged)[0])
 
 
 def set_lines(style, measure, words, ragged):
-    """The strips of a row of words, and the positions at which its lines begin and end."""
+    """The strips of a row of words, with traces, and the positions at which its lines begin and end."""
     lines = least_lines(measure, style[6][0], tuple([shape_of(style, word) for word, _ in words]))
     strips = []
     for begin, end in zip(lines, lines[1:]):
@@ -27,17 +27,16 @@ def _pieces_of_line(style, words, begin, end):
     for at in range(begin[0], end[0] + 1):
         if at < end[0] or end[1] > 0:
             word, struck = words[at]
-            places = [0] + parting_places(style, word)
-            first = places[begin[1]] if at == begin[0] else 0
-            behind = places[end[1]] if at == end[0] else len(word)
-            pieces.append(piece_strip(style, word, struck, first, behind))
+            first = begin[1] if at == begin[0] else 0
+            last = end[1] if at == end[0] else 0
+            pieces.append(piece_strip(style, word, struck, first, last))
     return pieces
 
 
 def _line_strip(pieces, measure, loose):
     """The strip of a line with these pieces; its gaps are as wide as it takes, but 1 unit each if it is loose."""
     gaps = len(pieces) - 1
-    rest = 0 if loose else measure - sum([len(signs) for signs, _ in pieces]) - gaps
+    rest = 0 if loose else measure - sum([len(piece[0]) for piece in pieces]) - gaps
     row = [pieces[0]]
     for at, piece in enumerate(pieces[1:], start=1):
         row.append(blank_strip(1 + at * rest // gaps - (at - 1) * rest // gaps))

@@ -1,14 +1,15 @@
 """The rows of blocks, figures and notes [22].
 
-A run is a tuple of rows, a row is a triple: its strip, the numbers of the notes whose marks stand in it, and the
-words of the keys that begin in it. The strips of a table, and those of a formula, are one run, too.
+A run is a tuple of rows, a row is a triple: its strip (with its trace), the numbers of the notes whose marks stand in
+it, and the words of the keys that begin in it. The strips of a table, and those of a formula, are one run, too.
 """
 
-from hushedpages.formulas import shown
+from hushedpages.formulas import traced_show
 from hushedpages.listed import listed_heads, listed_keys, listed_labels
-from hushedpages.rows import set_lines, set_words
+from hushedpages.pieces import struck_of
+from hushedpages.rows import set_lines
 from hushedpages.strips import blank_strip, joined, plain_strip
-from hushedpages.tables import table_strips
+from hushedpages.tables import traced_table
 
 UNKNOWN_PAGE = "??"
 MARK = "*"
@@ -39,9 +40,9 @@ class Setter:
         if kind == "list":
             return tuple([self.item_run(pieces) for pieces in block[1]])
         if kind == "table":
-            return (_plain_run(table_strips(self.style, [self.table_row(row) for row in block[1]])),)
+            return (_plain_run(traced_table(self.style, [self.table_row(row) for row in block[1]])),)
         if kind == "show":
-            return (_plain_run(shown(self.style, block[1])),)
+            return (_plain_run(traced_show(self.style, block[1])),)
         if kind == "contents":
             return tuple([self.contents_run(pieces, page) for pieces, page in zip(self.headings, self.heads)])
         if kind == "index":
@@ -49,14 +50,14 @@ class Setter:
         return ()
 
     def word_of(self, piece):
-        """The word of a piece, and 1 if it is struck, 0 if not; a note is the next one."""
+        """The word of a piece, and its mark if it is struck, 0 if not; a note is the next one."""
         kind = piece[0]
         if kind == "page":
             return _page_word(self.labels[piece[1]]), 0
         if kind == "note":
             self.noted.append(piece[1])
             return MARK + str(len(self.noted)), 0
-        return piece[1], 1 if kind == "hid" else 0
+        return piece[1], struck_of(piece)
 
     def prose_run(self, pieces, measure):
         """The run of a paragraph, or of an item that is set to this measure."""
@@ -104,19 +105,23 @@ class Setter:
 
     def ragged_run(self, words):
         """The run of words that are set ragged."""
-        return _plain_run(set_words(self.style, self.style[0], words, True))
+        return _plain_run(self.strips_of(words, True))
 
     def figure_strips(self, block):
         """The strips of a figure."""
         frame = plain_strip(FRAME * self.style[0])
         words = [self.word_of(piece) for piece in block[2]]
-        caption = set_words(self.style, self.style[0], words, True) if len(words) > 0 else ()
+        caption = self.strips_of(words, True) if len(words) > 0 else ()
         return (frame,) * block[1] + caption + (frame,)
 
     def note_strips(self, number):
         """The strips of the note of this number."""
         words = [(MARK + str(number), 0)] + [self.word_of(piece) for piece in self.noted[number - 1]]
-        return set_words(self.style, self.style[0], words)
+        return self.strips_of(words, False)
+
+    def strips_of(self, words, ragged):
+        """The strips of words that are set to the whole measure."""
+        return set_lines(self.style, self.style[0], words, ragged)[0]
 
 
 def _page_word(page):

@@ -16,6 +16,12 @@ def signs_of(style, word, first, behind):
     return "".join(signs)
 
 
+def signs_between(style, word, first, last):
+    """The signs of the piece of a word between two partings, counted from 1; 0 for no parting."""
+    places = parting_places(style, word)
+    return signs_of(style, word, places[first - 1] if first > 0 else 0, places[last - 1] if last > 0 else len(word))
+
+
 def shape_of(style, word):
     """The shape of a word: its width, and its partings."""
     partings = []

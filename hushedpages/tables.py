@@ -1,7 +1,7 @@
 """Tables: their least boundaries, the chains that show these, and their strips [20]."""
 
 from hushedpages.errors import TooWide
-from hushedpages.strips import blank_strip, joined, placed, word_strip
+from hushedpages.strips import bare, blank_strip, joined, placed, word_strip
 
 
 def boundaries(tracks, cells):
@@ -47,6 +47,11 @@ def judge_chain(tracks, cells, boundary, value, chain):
 
 def table_strips(style, rows):
     """The strips of a table, one for each of its rows."""
+    return bare(traced_table(style, rows))
+
+
+def traced_table(style, rows):
+    """The strips of a table, with traces."""
     measure = style[0]
     table = [_cells_of(style, row) for row in rows]
     cells = [(track, span, len(strip[0])) for row in table for track, span, strip in row]
