@@ -33,6 +33,35 @@ EXAMPLES = """
 >>> from hushedpages.columns import least_columns
 >>> least_columns(3, 0, (((0, 1, 0), (0, 1, 0), (0, 1, 0), (0, 1, 0)), ()))
 ((0, 0), (3, 0), (4, 0))
+>>> from hushedpages.files import file_of
+>>> file_of((('ab ', '###'),))
+(3, 2, '"ab"/3#;')
+>>> from hushedpages.curtains import draw
+>>> draw(('even', 2), (('a# b###',),))
+(('a##b###',),)
+>>> from hushedpages.plans import finest, careless, told_at, keeps_promise
+>>> scene = (((0,), (1,), (2,)), ((1, 1, 1),), (((0, 0, 0), (((0, 2),),)),))
+>>> views = (('x', 0), ('x', 0), ('y', 0))
+>>> finest(scene, views)
+(1, 1, 1)
+>>> careless(scene, views)
+(0, 0, 1)
+>>> told_at(views, (0, 0, 1), 2)
+(2,)
+>>> keeps_promise(scene, views, (0, 0, 1))
+False
+>>> from hushedpages.office import Office
+>>> book = (('who', 2, (('a', 'n'), ('b', 'o', 'b')), ('',)),)
+>>> office = Office(book, (S,), ('bob',), readers=('ann',))
+>>> record = (('par', (('hole', 'who', 0), ('say', 'x'))),)
+>>> office.act(('hand', 'ann', record, 0, (('rows',),)))
+('copy', 1, (('           1', '            ', '############', '            ', '            '),))
+>>> office.known(0)
+((0,), (1,))
+>>> office.act(('tell', 'ann', 'who'))
+('told', 'who', 'bob')
+>>> office.known(0)
+((1,),)
 """
 README = pathlib.Path(__file__).resolve().parent.parent / "README.md"
 
