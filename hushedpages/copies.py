@@ -44,46 +44,53 @@ def _agreeing(record, book, styles, which, copy):
     for secret in book:
         if stems_many(secret[2]) > MOST_STEMS:
             raise TooMany("stems")
-    settings = Settings(family, record, which)
-    for filling in family.fillings:
-        settings.pages_for(filling)
-    stems = [[shaped.stems_with(shape) for shape in range(len(shaped.shapes))] for shaped in family.shaped]
-    comparison = Comparison(settings, copy)
-    return [(filling, [comparison.agreeing(filling, at, stems[at][shape]) for at, shape in enumerate(filling)])
-            for filling in family.fillings]
+    comparison = Comparison(Settings(family, record, which), copy)
+    return [(filling, [comparison.agreeing(filling, at) for at in range(len(book))]) for filling in family.fillings]
 
 
 class Comparison:
-    """Compares a copy with the print of a record for fillings, and for the stems of these."""
+    """Compares a copy with the print of a record for all fillings, and for all stems of these.
+
+    Raises the first error of setting the record for the fillings, in their order.
+    """
 
     def __init__(self, settings, copy):
         self.settings = settings
-        self.style = settings.family.styles[settings.which]
+        self.family = settings.family
         self.copy = copy
+        for filling in self.family.fillings:
+            settings.pages_for(filling)
+        self.stems = [shaped.all_stems() for shaped in self.family.shaped]
         # What is seen of struck words is the same for all fillings of which the record tells the same.
         self.seen = {}
+        self.signs = {}
 
-    def agreeing(self, filling, at, stems):
-        """Which of some stems of the shape of secret number at agree with the copy, for a filling."""
+    def agreeing(self, filling, at):
+        """The stems of secret number at, of its shape in a filling, that agree with the copy for this filling."""
         key = self.settings.key_of(filling)
         if key not in self.seen:
             self.seen[key] = self.seen_for(filling)
         if self.seen[key] is None:
             return []
-        endings = self.settings.family.book[at][3]
-        seen = [(endings[ending], first, last, signs)
-                for (secret, ending), first, last, signs in self.seen[key] if secret == at]
-        return [stem for stem in stems if self.fits(stem, seen)]
+        stems = self.stems[at][filling[at]]
+        left = list(range(len(stems)))
+        for (secret, ending), first, last, row in self.seen[key]:
+            if secret == at:
+                signs = self.signs_of_all(at, filling[at], ending, first, last)
+                left = [k for k in left if _agree(row, signs[k])]
+        return [stems[k] for k in left]
 
-    def fits(self, stem, seen):
-        """Whether the words of a stem have the signs that are seen of their pieces."""
-        for ending, first, last, signs in seen:
-            if not _agree(signs, signs_between(self.style, stem + ending, first, last)):
-                return False
-        return True
+    def signs_of_all(self, at, shape, ending, first, last):
+        """For each stem of a shape of secret number at the signs of the piece of its word between two partings."""
+        key = at, shape, ending, first, last
+        if key not in self.signs:
+            style = self.family.styles[self.settings.which]
+            behind = self.family.book[at][3][ending]
+            self.signs[key] = [signs_between(style, stem + behind, first, last) for stem in self.stems[at][shape]]
+        return self.signs[key]
 
     def seen_for(self, filling):
-        """What the copy shows of the struck words for a filling: pieces with their signs, each once.
+        """What the copy shows of the struck words for a filling: pieces with what is seen of them, each once.
 
         None if no stem agrees with the copy, whatever the struck words are.
         """
@@ -99,7 +106,9 @@ class Comparison:
                 if len(signs) != len(row) or not _agree_beside(row, signs, cover):
                     return None
                 for left, width, mark, first, last in trace:
-                    seen[mark, first, last, row[left:left + width]] = True
+                    part = row[left:left + width]
+                    if part != COVER * width:
+                        seen[mark, first, last, part] = True
         return sorted(list(seen))
 
 

@@ -125,7 +125,7 @@ class Growth:
             heads.append(behind.number(later_kind, larger[number], beginning + sign))
         return heads
 
-    def counts(self):
+    def node_counts(self):
         """For each node behind the last slot, how many stems come to it."""
         many = [1]
         for steps in self.paths:

@@ -40,7 +40,7 @@ class Shaped:
             growth = Growth(additions, pattern, secret[3])
             told = [joint_shape(styles, secret, stem) for stem in growth.firsts]
             self.growths.append((growth, told))
-            for shape, stems in zip(told, growth.counts()):
+            for shape, stems in zip(told, growth.node_counts()):
                 many[shape] = many.get(shape, 0) + stems
             if len(many) > MOST_SHAPES:
                 raise TooMany("shapes")
@@ -57,13 +57,16 @@ class Shaped:
             rests = self.rests_of(at, shape)
         return self.growths[at][0].stem_at(rests, k)
 
-    def stems_with(self, number):
-        """All stems with this number of a shape, in the order of the stock."""
-        stems = []
-        for at, (growth, _) in enumerate(self.growths):
-            rests = self.rests_of(at, self.shapes[number][0])
-            stems.extend([growth.stem_at(rests, k) for k in range(rests[0][0])])
-        return stems
+    def all_stems(self):
+        """For each shape all its stems, in the order of the stock; not for a stock of very many stems."""
+        rows = []
+        for shape, _ in self.shapes:
+            stems = []
+            for at, (growth, _) in enumerate(self.growths):
+                rests = self.rests_of(at, shape)
+                stems.extend([growth.stem_at(rests, k) for k in range(rests[0][0])])
+            rows.append(stems)
+        return rows
 
     def place_with(self, stem):
         """The number of a stem's shape, and its number among the stems with this shape."""

@@ -46,6 +46,7 @@ class Office:
 
     @deeds.setter
     def deeds(self, value):
+        """Begins anew and does these deeds."""
         self.again(value)
 
     def again(self, deeds):
@@ -129,7 +130,10 @@ class Office:
 
 
 class Trial:
-    """Keeps the state that an office has where a with statement is entered, and gives it back behind it."""
+    """Keeps the state that an office has where a with statement is entered, and gives it back behind it.
+
+    One trial can be entered several times, also within itself.
+    """
 
     def __init__(self, office):
         self.office = office
@@ -140,8 +144,8 @@ class Trial:
         self.kept = Kept(self.office.state, self.kept)
         return self.office
 
+    # The state that was kept last is given back, also when an error leaves the block.
     def __exit__(self, kind, value, trace):
-        """Gives back the state that was kept last."""
         office = self.office
         office.state = self.kept.state
         self.kept = self.kept.earlier
