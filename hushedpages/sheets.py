@@ -2,7 +2,7 @@
 
 from hushedpages.numbers import at_rest
 from hushedpages.pieces import struck_of
-from hushedpages.strips import BLANK, COVER, bare, blank_strip, joined, placed, plain_strip, word_strip
+from hushedpages.strips import COVER, bare, blank_strip, joined, placed, plain_strip, word_strip
 
 FOOT = "~"
 BETWEEN_COLUMNS = 2

@@ -44,6 +44,17 @@ class LooksTest(unittest.TestCase):
             signs = "".join(row for page in look_with(record, BOOK, style, stems) for row in page[2:])
             self.assertFalse(set("mwz037'") & set(signs))
 
+    def test_sheets_hang_on_struck_words_only_by_their_shapes(self):
+        for record, style in itertools.product((HERE, BOTH, TIMES, LONG), STYLES):
+            told = {}
+            for stems in all_stems(BOOK):
+                sheets, numbers, rings = settled(filled(record, BOOK, stems), style)
+                # Where no cover is, the same signs stand; and the same cells are covered.
+                beside = [[("".join(sign for sign, over in zip(*strip) if over == " "), strip[1]) for strip in page]
+                          for page in sheets]
+                filling = filling_of(BOOK, STYLES, stems)
+                self.assertEqual(told.setdefault(filling, (beside, numbers, rings)), (beside, numbers, rings))
+
     def test_views(self):
         steps = (("rows",), ("keep", 1))
         for record, which in itertools.product((HERE, BOTH, TIMES, LONG, ()), (0, 1)):
